@@ -155,6 +155,15 @@ func TestNewIsEmpty(t *testing.T) {
 	hold(t, vault.New(), &told{})
 }
 
+// P1: one that New did not make is empty too.
+func TestVaultOfNobody(t *testing.T) {
+	v, m := new(vault.Vault), &told{}
+	hold(t, v, m)
+	put(t, v, m, pub(one))
+	put(t, v, m, exp(one, two))
+	hold(t, v, m)
+}
+
 // P6.1, V1: kids stand ahead, in order, each once.
 func TestKidsStandAhead(t *testing.T) {
 	for i, c := range []struct {
